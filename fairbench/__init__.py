@@ -1,0 +1,1 @@
+"""Benches filled by ballots, and heaps of ballots that are left out."""
