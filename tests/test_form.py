@@ -1,4 +1,4 @@
-"""The form of the package's files: those rules of the language that a look at the text can tell."""
+"""The form of the package's files: some of the rules of the language, not all of them."""
 
 import ast
 import builtins
