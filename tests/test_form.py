@@ -29,6 +29,14 @@ WORDS = """type typing typing_extensions enum Enum IntEnum StrEnum Flag IntFlag 
 namedtuple NamedTuple TypedDict TYPE_CHECKING abstractmethod""".split()
 
 
+UNUSED = """register mro elements open input version_info with_traceback add_note attrgetter breakpoint builtins compile
+copyright credits delattr dir eval exec exit gc getattr globals hasattr help id importlib license locals methodcaller
+os quit setattr super type vars sys""".split()
+
+WALKED = "zip enumerate reversed range items keys values".split()
+WALKERS = "list tuple dict sorted sum any all enumerate zip min max join".split()
+
+
 def texts():
     told = {}
     for name in sorted(os.listdir(FOLDER)):
@@ -40,6 +48,40 @@ def texts():
 
 def nodes():
     return [(name, node) for name, text in texts().items() for node in ast.walk(ast.parse(text))]
+
+
+def called(node):
+    """The name of what is called, where a name or a method is."""
+    if not isinstance(node, ast.Call):
+        return None
+    return getattr(node.func, "id", None) or getattr(node.func, "attr", None)
+
+
+def with_parents():
+    return [(name, parent, node) for name, parent in nodes() for node in ast.iter_child_nodes(parent)]
+
+
+def tops():
+    return [(name, node) for name, text in texts().items() for node in ast.parse(text).body]
+
+
+def drawn():
+    """For each file the names that it draws from others: pairs (file, name)."""
+    told = {name: [] for name in texts()}
+    for name, node in nodes():
+        if isinstance(node, ast.ImportFrom):
+            told[name] += [(node.module.split(".")[1] + ".py", part.name) for part in node.names]
+    return told
+
+
+def bound_at_top():
+    told = {name: [] for name in texts()}
+    for name, node in tops():
+        if isinstance(node, (ast.FunctionDef, ast.ClassDef)):
+            told[name].append(node.name)
+        if isinstance(node, ast.Assign):
+            told[name].append(node.targets[0].id)
+    return told
 
 
 def own_methods():
@@ -107,6 +149,70 @@ class Code(unittest.TestCase):
             self.assertFalse(getattr(node, "decorator_list", []), name)
             if isinstance(node, ast.Assign):
                 self.assertEqual(len(node.targets), 1, (name, node.lineno))
+
+    def test_classes_hold_methods_alone_and_stand_at_the_top(self):
+        for name, parent, node in with_parents():
+            if isinstance(node, ast.ClassDef):
+                self.assertIsInstance(parent, ast.Module, name)
+                self.assertLessEqual(len(node.bases), 1, (name, node.name))
+                methods = [part.name for part in node.body if isinstance(part, ast.FunctionDef)]
+                self.assertEqual(len(methods), len(set(methods)), (name, node.name))
+                for part in node.body:
+                    self.assertIsInstance(part, (ast.FunctionDef, ast.Pass), (name, part.lineno))
+
+    def test_no_name_is_a_method_and_a_value(self):
+        values = {node.attr for name, node in nodes()
+                  if isinstance(node, ast.Attribute) and isinstance(node.ctx, ast.Store)}
+        self.assertEqual(values & own_methods(), set())
+
+    def test_names_of_a_files_top_are_bound_once_and_lent_to_no_local(self):
+        tops_of, imports_of = bound_at_top(), drawn()
+        for name, bound in tops_of.items():
+            every = bound + [part for file, part in imports_of[name]]
+            self.assertEqual(len(every), len(set(every)), name)
+        for name, node in nodes():
+            local = node.arg if isinstance(node, ast.arg) else None
+            if isinstance(node, ast.Name) and isinstance(node.ctx, ast.Store):
+                local = node.id
+            self.assertNotIn(local, [part for file, part in imports_of[name]], (name, getattr(node, "lineno", None)))
+
+    def test_names_are_drawn_from_the_file_that_defines_them_and_in_no_circle(self):
+        tops_of, imports_of = bound_at_top(), drawn()
+        for name, pairs in imports_of.items():
+            for file, part in pairs:
+                self.assertIn(part, tops_of[file], name)
+            ahead = {file for file, part in pairs}
+            for step in imports_of:
+                ahead |= {file for one in ahead for file, part in imports_of[one]}
+            self.assertNotIn(name, ahead)
+
+    def test_names_that_are_not_used(self):
+        for name, node in nodes():
+            used = getattr(node, "id", None) or getattr(node, "attr", None) or getattr(node, "name", None)
+            self.assertNotIn(used, UNUSED, (name, getattr(node, "lineno", None)))
+
+    def test_is_stands_beside_none_true_and_false(self):
+        for name, node in nodes():
+            if isinstance(node, ast.Compare) and any(isinstance(sign, (ast.Is, ast.IsNot)) for sign in node.ops):
+                for part in node.comparators:
+                    self.assertIsInstance(part, ast.Constant, (name, node.lineno))
+
+    def test_what_is_walked_is_walked_on_the_spot(self):
+        for name, parent, node in with_parents():
+            if called(node) in WALKED:
+                walked = isinstance(parent, (ast.For, ast.comprehension)) and parent.iter is node
+                self.assertTrue(walked or called(parent) in WALKERS, (name, node.lineno))
+
+    def test_sets_are_not_kept(self):
+        for name, parent, node in with_parents():
+            self.assertNotIsInstance(node, ast.Set, name)
+            if called(node) == "set":
+                self.assertIn(called(parent), ("sorted", "len"), (name, node.lineno))
+
+    def test_keywords(self):
+        for name, node in nodes():
+            if isinstance(node, ast.Call) and node.keywords:
+                self.assertIn((called(node), [part.arg for part in node.keywords]), [("sorted", ["key"])], name)
 
 
 if __name__ == "__main__":

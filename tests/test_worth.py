@@ -8,28 +8,9 @@ from fractions import Fraction
 
 from fairbench.heaps import heaps_of
 from fairbench.worth import exchanges, mended, worth
+from samples import FORTY_FIGURES, benches_of, cases, sets_of
 
-FORTY_FIGURES = 10 ** 40 - 1
 TO_ONE_BALLOT = [0, 60, 90, 110, 125, 137, 147]
-
-
-def sets_of(count):
-    return [names for length in range(count + 1) for names in itertools.combinations(range(count), length)]
-
-
-def benches_of(count):
-    return sets_of(count)[1:]
-
-
-def sample_heaps(count, seed):
-    """Heaps that look mixed and are the same in each run; low numbers make many equal gains."""
-    rows = []
-    state = seed * 7919 + count
-    for step in range(1 + seed % 7):
-        state = (state * 1103515245 + 12345) % 2 ** 31
-        names = [name for name in range(count) if state >> (8 + name) & 1]
-        rows.append((names, 1 + (state >> 20) % (3 if seed % 2 else 40)))
-    return heaps_of(count, rows)
 
 
 def plain_worth(heaps, names):
@@ -58,12 +39,6 @@ def plain_mended(count, heaps, bench):
         best = sorted(gaining, key=lambda told: (-told[2], told[0], told[1]))[0]
         made.append(best)
         bench = tuple(sorted(set(bench) - {best[0]} | {best[1]}))
-
-
-def cases():
-    for count in range(1, 7):
-        for seed in range(24):
-            yield count, sample_heaps(count, seed)
 
 
 class Interface(unittest.TestCase):
